@@ -1,0 +1,1 @@
+"""Rimtrails: one order on the rim of a disc."""

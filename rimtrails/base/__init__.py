@@ -1,0 +1,1 @@
+"""Words, numbers and discs, on which all other parts stand."""
