@@ -13,15 +13,24 @@ def lack_among(rounds, ends):
     neighbours = {}
     for place, ties in rounds.items():
         neighbours[place] = [other_end(ends[tie], place) for tie in ties]
+    return tuple(sorted(matched(neighbours)[1]))
+
+
+def matched(neighbours):
+    """Gives each place one of its neighbours, no two the same one.
+
+    Returns the dict from the neighbours that are held to the places that hold them, and a list: it is empty,
+    or it tells some places that are more than all their neighbours, and then not all places hold one.
+    """
     holders = {}
     for place in neighbours:
         asked, holding = _asked_from(place, neighbours, holders)
         free = [neighbour for neighbour in asked if neighbour not in holders]
         if len(free) == 0:
-            return tuple(sorted(holding))
+            return holders, list(holding)
         for given, taker in _gifts(free[0], asked, holding):
             holders[given] = taker
-    return ()
+    return holders, []
 
 
 def _asked_from(start, neighbours, holders):

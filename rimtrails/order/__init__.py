@@ -1,0 +1,1 @@
+"""Orders of rim places, and what tells them."""

@@ -1,0 +1,1 @@
+"""Pairings of discs, and the leanings that belong to them."""
