@@ -3,31 +3,42 @@
 import inspect
 
 from rimtrails.base.discs import Disc
-from rimtrails.errors import InvalidDisc, InvalidNumber, InvalidOperation, UnknownName
-from tests.samples import SQUARE, wrong_values
+from rimtrails.errors import InvalidDiagram, InvalidDisc, InvalidNumber, InvalidOperation, InvalidOrder, UnknownName
+from rimtrails.order.diagrams import Diagram
+from rimtrails.order.orders import Order
+from tests.samples import wrong_values
 
 KEPT = {InvalidNumber: "value", UnknownName: "name"}
+# Which objects are right where the error is raised for others.
+OBJECTS = {InvalidDisc: Disc, InvalidOrder: Order, InvalidDiagram: Diagram}
+
+
+def wrong_kinds(error):
+    """Values of all kinds, but for those that are right where the error is raised for others."""
+    objects = [Order((2, 4, 3)), Diagram(2, (1,), ((1, 2),))]
+    right = OBJECTS.get(error, ())
+    return [value for value in (*wrong_values(), *objects, (), {}, "a") if not isinstance(value, right)]
 
 
 def no_discs():
     """Values that are no disc, with the error for them."""
-    return InvalidDisc, [value for value in (*wrong_values(), (), {}, 1, "a") if not isinstance(value, Disc)]
+    return InvalidDisc, [*wrong_kinds(InvalidDisc), 1]
 
 
 def no_numbers(least, greatest):
     """Values that are no integer from the least to the greatest one, with the error for them."""
-    return InvalidNumber, [*wrong_values(), (), {}, "a", "1", (1,), [1], least - 1, greatest + 1, greatest + 100]
+    return InvalidNumber, [*wrong_kinds(InvalidNumber), "1", (1,), [1], least - 1, greatest + 1, greatest + 100]
 
 
 def no_ties(disc):
     """Values that are no tie of the disc, with the error for them."""
-    return UnknownName, [*wrong_values(), (), {}, 0, 1, "nosuch", (disc.ties[0],), [disc.ties[0]]]
+    return UnknownName, [value for value in wrong_kinds(UnknownName) if value != "a"] + [0, 1, "nosuch", (disc.ties[0],), [disc.ties[0]]]
 
 
 def not_one_of(right, error=InvalidOperation):
     """Wrong values of all kinds, but for the right ones, with the error for them."""
     right = [repr(value) for value in right]
-    return error, [value for value in (*wrong_values(), (), {}, 0, 1, 2, -1, "a") if repr(value) not in right]
+    return error, [value for value in (*wrong_kinds(error), 0, 1, 2, -1) if repr(value) not in right]
 
 
 def run(function, args, named):
@@ -109,7 +120,7 @@ def check_judge(test, judge, right, others=()):
     told = {repr(_in_order(value)) for value in right}
     for value in right:
         test.assertIs(judge(value), True, value)
-    found = [*wrong_values(), (), {}, 0, 1, 2, "a", *others]
+    found = [*wrong_kinds(None), 0, 1, 2, *others]
     for value in right:
         found.extend(near(value))
     for value in found:

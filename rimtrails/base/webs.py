@@ -52,8 +52,13 @@ def other_end(pair, end):
     return pair[1] if pair[0] == end else pair[0]
 
 
-def do_all_reach_rim(rim, rounds, ends):
-    """Whether one comes from each inner place to the rim along ties: rule 3."""
+def other_colour(colour):
+    """That one of the two colours that is not the told one."""
+    return "white" if colour == "black" else "black"
+
+
+def reached_from_rim(rim, rounds, ends):
+    """The dict of True for the inner places to which one comes from these ties of the rim along those of the rounds."""
     met = {}
     waiting = [ends[tie][1] for tie in rim]
     while len(waiting) > 0:
@@ -61,7 +66,12 @@ def do_all_reach_rim(rim, rounds, ends):
         if place not in met and place in rounds:
             met[place] = True
             waiting.extend([other_end(ends[tie], place) for tie in rounds[place]])
-    return len(met) == len(rounds)
+    return met
+
+
+def do_all_reach_rim(rim, rounds, ends):
+    """Whether one comes from each inner place to the rim along ties: rule 3."""
+    return len(reached_from_rim(rim, rounds, ends)) == len(rounds)
 
 
 def steps_behind(rim, rounds, ends):

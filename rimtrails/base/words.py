@@ -64,6 +64,14 @@ def nth_name(index):
     return _LETTERS[index // many - 1] + _LETTERS[index % many]
 
 
+def new_name(names):
+    """The first name, in the order of `nth_name`, that is none of the names, of which there are fewer than 702."""
+    index = 0
+    while nth_name(index) in names:
+        index += 1
+    return nth_name(index)
+
+
 def is_fraction(value):
     """Whether the value is a fraction [1.3], with integers of any length."""
     if not isinstance(value, tuple) or len(value) != 2:

@@ -1,0 +1,1 @@
+"""Discs that are built from dead ends and bridges."""

@@ -1,0 +1,1 @@
+"""Discs from which nothing can go, and what tells them."""
