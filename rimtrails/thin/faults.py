@@ -117,23 +117,28 @@ def _is_hanging(disc, place):
     return len(ties) == 1 and ties[0] not in disc.rim
 
 
+def _ties_walked(steps):
+    """The list of the ties of the steps."""
+    return [step[0] for step in steps]
+
+
 def _tie_walked_twice(steps):
     """The first tie that a trail walks in both directions, or None."""
-    ties = [tie for tie, _ in steps]
+    ties = _ties_walked(steps)
     twice = [tie for tie in ties if ties.count(tie) == 2]
     return twice[0] if len(twice) > 0 else None
 
 
 def _comes_before(steps, tie, other):
     """Whether a step with the one tie comes before one with the other tie."""
-    ties = [step[0] for step in steps]
+    ties = _ties_walked(steps)
     return tie in ties and other in ties[ties.index(tie) + 1:]
 
 
 def _pair_met_alike(disc, steps, others):
     """A pair of inner ties of which the first one comes before the second one on both trails, or None."""
-    walked = [tie for tie, _ in others if tie not in disc.rim]
-    common = [tie for tie, _ in steps if tie in walked]
+    walked = [tie for tie in _ties_walked(others) if tie not in disc.rim]
+    common = [tie for tie in _ties_walked(steps) if tie in walked]
     for one in common:
         for other in common:
             if one != other and _comes_before(steps, one, other) and _comes_before(others, one, other):
@@ -151,7 +156,7 @@ def _is_fault_of_one(disc, word, value):
     if word == "end":
         return value in disc.places and _is_hanging(disc, value)
     if word == "round":
-        return any([value == tie for steps in round_trails(disc) for tie, _ in steps])
+        return any([value in _ties_walked(steps) for steps in round_trails(disc)])
     if word != "fixed" or not _is_index(disc, value):
         return False
     return not _has_dead_end(disc, value) and trail(disc, value)[-1][1] == value
@@ -161,7 +166,7 @@ def _is_both(disc, index, tie):
     """Whether the trail from the rim place, at which no dead end stands, walks the tie in both directions."""
     if not _is_index(disc, index) or _has_dead_end(disc, index):
         return False
-    return [step[0] for step in trail(disc, index)].count(tie) == 2
+    return _ties_walked(trail(disc, index)).count(tie) == 2
 
 
 def _is_twice(disc, one, other, first, last):
