@@ -6,7 +6,10 @@ import random
 from rimtrails.base.discs import Disc
 from rimtrails.base.webs import from_least
 from rimtrails.base.words import nth_name
+from rimtrails.build.bridges import disc_of
 from rimtrails.errors import InvalidDisc
+from rimtrails.order.orders import Order
+from rimtrails.thin.moves import each_move, moved
 from tests.samples import BLACK, DOUBLE, HUNG, LINE, SQUARE, STAR
 
 SIDES = "URDL"
@@ -146,3 +149,35 @@ def discs_by_chance(count, most_ties=14):
             seen.add(disc.lines)
             found.append(disc)
     return tuple(found)
+
+
+def thin_by_chance(order, seed, steps=6):
+    """A thin disc with this order, by so many drawn moves from the one that its steps make."""
+    chance = random.Random(seed)
+    disc = disc_of(order)
+    for _ in range(steps):
+        moves = list(each_move(disc))
+        squares = [move for move in moves if move[0] == "square"]
+        wanted = squares if squares and chance.randrange(2) else moves
+        if moves:
+            disc = moved(disc, chance.choice(wanted))
+    return disc
+
+
+def renamed_by_chance(disc, seed):
+    """The disc with other names, some of them those of other places and ties before."""
+    chance = random.Random(seed)
+    pool = [nth_name(index) for index in range(100)]
+    places = chance.sample(pool, len(disc.places))
+    return disc.renamed(dict(zip(disc.places, places)), dict(zip(disc.ties, chance.sample(pool, len(disc)))))
+
+
+def orders_by_chance(many, count):
+    """So many orders of so many rim places."""
+    chance = random.Random(many * 1000 + count)
+    found = []
+    while len(found) < count:
+        ends = chance.sample(range(1, many + 1), many)
+        marks = {at: chance.choice(("black", "white")) for at in range(1, many + 1) if ends[at - 1] == at}
+        found.append(Order.of_ends(tuple(ends), marks))
+    return found

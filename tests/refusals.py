@@ -25,6 +25,11 @@ def no_discs():
     return InvalidDisc, [*wrong_kinds(InvalidDisc), 1]
 
 
+def no_orders():
+    """Values that are no order, with the error for them."""
+    return InvalidOrder, [*wrong_kinds(InvalidOrder), 1, (2, 3), "order 2 3"]
+
+
 def no_numbers(least, greatest):
     """Values that are no integer from the least to the greatest one, with the error for them."""
     return InvalidNumber, [*wrong_kinds(InvalidNumber), "1", (1,), [1], least - 1, greatest + 1, greatest + 100]

@@ -27,6 +27,16 @@ FUNCTIONS = {
                       "is_steps(value)", "order_by(steps)", "disc_by(steps)", "steps_of(order)", "disc_of(order)"],
     "thin.faults": ["left_out(disc, ties)", "can_go(disc, tie)", "is_thin(disc)", "fault_of(disc)", "is_fault(disc, value)",
                     "needed_sets(disc)", "is_needed_sets(disc, value)"],
+    "thin.moves": ["each_move(disc)", "is_move(disc, value)", "moved(disc, move)", "is_short(disc)", "shortened(disc)",
+                   "made_thin(disc)", "is_thinning(disc, value)"],
+    "label.labels": ["is_left_of(disc, index, value)", "labels_of(disc)", "do_cross(many, one, other)", "crossing_in(sets)",
+                     "collection_of(disc)", "is_collection(order, value)", "exchanges(order, collection)",
+                     "exchanged(order, collection, places)", "each_collection(order)", "disc_of_collection(order, collection)"],
+    "label.ways": ["are_moved(one, other)", "way_between(one, other)", "is_way(one, other, value)", "set_apart(one, other)",
+                   "each_short(order)", "distance(one, other)"],
+    "point.points": ["told_numbers(disc, numbers)", "point_of(disc, numbers)", "is_point(order, value)",
+                     "failing_relation(order, point)", "rescaled(disc, numbers, place, factor)",
+                     "rescaling_between(disc, one, other)", "region_numbers(disc, numbers)", "moved_numbers(disc, numbers, move)"],
 }
 METHODS = {
     "base.discs.Disc": ["__init__(self, rim, black, white)", "colour(self, place)", "round_of(self, place)",
@@ -40,7 +50,11 @@ MADE_BY = {
     "order.orders.Order": "of_ends(cls, ends, marks)",
     "order.diagrams.Diagram": "from_lines(cls, many, rows, *lines)",
 }
-GENERATORS = {"each_pairing", "each_knot", "each_order", "each_diagram"}
+CONSTANTS = {
+    "base.words": {"MAX_LETTERS": 8, "MAX_FIGURES": 60}, "base.discs": {"MAX_RIM": 8, "MAX_TIES": 60},
+    "label.labels": {"MAX_COLLECTIONS": 1000}, "label.ways": {"MAX_SHORT": 1000},
+}
+GENERATORS = {"each_pairing", "each_knot", "each_order", "each_diagram", "each_move", "each_collection", "each_short"}
 
 
 def told(name):
@@ -73,6 +87,11 @@ class Interface(unittest.TestCase):
             made = vars(told(name))[text.partition("(")[0]]
             self.assertIs(type(made), classmethod)
             self.check(made.__func__, text)
+
+    def test_constants(self):
+        for module, numbers in CONSTANTS.items():
+            for name, number in numbers.items():
+                self.assertEqual(told(f"{module}.{name}"), number)
 
 
 if __name__ == "__main__":

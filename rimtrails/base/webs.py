@@ -13,6 +13,13 @@ def from_least(ties):
     return ties[at:] + ties[:at]
 
 
+def put_in_seat(rounds, place, tie, ties):
+    """Puts the ties into the round of the place, in the seat of one tie."""
+    own = rounds[place]
+    at = own.index(tie)
+    rounds[place] = from_least((*own[:at], *ties, *own[at + 1:]))
+
+
 def are_rounds(value):
     """Whether the value is a dict from names to rounds that begin with the least name."""
     if not isinstance(value, dict):

@@ -14,14 +14,14 @@ _LETTERS = "abcdefghijklmnopqrstuvwxyz"
 _NAMES = 702
 
 
-def _is_whole(value):
+def is_whole(value):
     """Whether the value is an integer, of any length."""
     return isinstance(value, int) and not isinstance(value, bool)
 
 
 def is_integer(value):
     """Whether the value is an integer of at most sixty digits."""
-    return _is_whole(value) and -_LEAST_TOO_LONG < value < _LEAST_TOO_LONG
+    return is_whole(value) and -_LEAST_TOO_LONG < value < _LEAST_TOO_LONG
 
 
 def is_count(value):
@@ -72,15 +72,23 @@ def new_name(names):
     return nth_name(index)
 
 
+def new_names(names, many):
+    """So many new names, given one after the other."""
+    given = []
+    for _ in range(many):
+        given.append(new_name([*names, *given]))
+    return tuple(given)
+
+
 def is_fraction(value):
     """Whether the value is a fraction [1.3], with integers of any length."""
     if not isinstance(value, tuple) or len(value) != 2:
         return False
     top, bottom = value
-    return _is_whole(top) and _is_whole(bottom) and bottom >= 1 and gcd(top, bottom) == 1
+    return is_whole(top) and is_whole(bottom) and bottom >= 1 and gcd(top, bottom) == 1
 
 
-def _in_lowest_terms(top, bottom):
+def in_lowest_terms(top, bottom):
     """The fraction with the value of `top` divided by `bottom`, which is not 0."""
     divisor = gcd(top, bottom)
     if bottom < 0:
@@ -94,7 +102,7 @@ def fraction(top, bottom):
         raise InvalidNumber(top)
     if not is_integer(bottom) or bottom == 0:
         raise InvalidNumber(bottom)
-    return _in_lowest_terms(top, bottom)
+    return in_lowest_terms(top, bottom)
 
 
 def _check_fractions(one, other):
@@ -108,13 +116,13 @@ def _check_fractions(one, other):
 def added(one, other):
     """The sum of two fractions."""
     _check_fractions(one, other)
-    return _in_lowest_terms(one[0] * other[1] + other[0] * one[1], one[1] * other[1])
+    return in_lowest_terms(one[0] * other[1] + other[0] * one[1], one[1] * other[1])
 
 
 def multiplied(one, other):
     """The product of two fractions."""
     _check_fractions(one, other)
-    return _in_lowest_terms(one[0] * other[0], one[1] * other[1])
+    return in_lowest_terms(one[0] * other[0], one[1] * other[1])
 
 
 def divided(one, other):
@@ -122,4 +130,4 @@ def divided(one, other):
     _check_fractions(one, other)
     if other[0] == 0:
         raise InvalidOperation("a fraction cannot be divided by 0")
-    return _in_lowest_terms(one[0] * other[1], one[1] * other[0])
+    return in_lowest_terms(one[0] * other[1], one[1] * other[0])

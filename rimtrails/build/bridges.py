@@ -2,7 +2,7 @@
 
 from rimtrails.base.checks import check_disc, check_number
 from rimtrails.base.discs import MAX_RIM, MAX_TIES, Disc
-from rimtrails.base.webs import from_least, other_colour
+from rimtrails.base.webs import from_least, other_colour, put_in_seat
 from rimtrails.base.words import is_integer, new_name, nth_name
 from rimtrails.errors import InvalidOperation, TooMany
 from rimtrails.order.orders import Order, check_order
@@ -46,11 +46,22 @@ def bridged(disc, index, *, ends=False):
                if disc.colour(disc.inner_end(seat)) != colour]
     _check_ties(len(disc) + len(wanting) + 1)
     for seat in wanting:
-        disc = _with_place_on(disc, seat)
+        disc = with_place_on(disc, seat)
     rounds = {"black": disc.black, "white": disc.white}
     tie = new_name(disc.ties)
-    _put_in(rounds[first], disc.inner_end(index), disc.rim[index - 1], (disc.rim[index - 1], tie))
-    _put_in(rounds[last], disc.inner_end(index + 1), disc.rim[index], (tie, disc.rim[index]))
+    put_in_seat(rounds[first], disc.inner_end(index), disc.rim[index - 1], (disc.rim[index - 1], tie))
+    put_in_seat(rounds[last], disc.inner_end(index + 1), disc.rim[index], (tie, disc.rim[index]))
+    return Disc(disc.rim, rounds["black"], rounds["white"])
+
+
+def with_place_on(disc, index):
+    """The disc with a new place on the tie of the rim place, of the colour that its inner end has not."""
+    rounds = {"black": disc.black, "white": disc.white}
+    old = disc.inner_end(index)
+    colour = disc.colour(old)
+    tie = new_name(disc.ties)
+    put_in_seat(rounds[colour], old, disc.rim[index - 1], (tie,))
+    rounds[other_colour(colour)][new_name(disc.places)] = from_least((disc.rim[index - 1], tie))
     return Disc(disc.rim, rounds["black"], rounds["white"])
 
 
@@ -102,24 +113,6 @@ def _check_ties(many):
     """Raises the error for more ties than a disc can have."""
     if many > MAX_TIES:
         raise TooMany(MAX_TIES)
-
-
-def _put_in(rounds, place, tie, ties):
-    """Puts the ties into the round of the place, in the seat of one tie."""
-    own = rounds[place]
-    at = own.index(tie)
-    rounds[place] = from_least((*own[:at], *ties, *own[at + 1:]))
-
-
-def _with_place_on(disc, index):
-    """The disc with a new place on the tie of the rim place, of the colour that its inner end has not."""
-    rounds = {"black": disc.black, "white": disc.white}
-    old = disc.inner_end(index)
-    colour = disc.colour(old)
-    tie = new_name(disc.ties)
-    _put_in(rounds[colour], old, disc.rim[index - 1], (tie,))
-    rounds[other_colour(colour)][new_name(disc.places)] = from_least((disc.rim[index - 1], tie))
-    return Disc(disc.rim, rounds["black"], rounds["white"])
 
 
 def _numbers_by(value):

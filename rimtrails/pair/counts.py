@@ -1,41 +1,59 @@
-"""How many pairings a disc has, without making them."""
+"""How many pairings a disc has, and sums over them, without making them."""
 
 from rimtrails.base.webs import other_end
+from rimtrails.pair.turns import used_places
 
 
 def number_of_pairings(disc):
-    """The number of pairings.
+    """The number of pairings."""
+    return _sum_over(disc, {tie: 1 for tie in disc.ties})
+
+
+def sum_with_set(disc, chosen, numbers):
+    """The products of the numbers of their ties, added up over all pairings whose set is the chosen one."""
+    used = used_places(disc, chosen)
+    held = [disc.inner_end(index) for index in used]
+    if len(set(held)) < len(held):
+        return 0
+    weights = {disc.rim[index - 1]: numbers[disc.rim[index - 1]] for index in used}
+    for tie in disc.ties:
+        if tie not in disc.rim and not any([place in held for place in disc.ends_of(tie)]):
+            weights[tie] = numbers[tie]
+    return _sum_over(disc, weights)
+
+
+def _sum_over(disc, weights):
+    """The products of the weights of their ties, added up over all pairings that have no ties but these.
 
     The inner places are gone through in an order in which few of those to come have neighbours among those
     that were gone through, so there are few ways in which pairings of the latter can have used the former.
     """
-    numbers = {(): 1}
+    sums = {(): 1}
     gone = {}
     for place in _order_of_places(disc):
         gone[place] = True
-        others = [other_end(disc.ends_of(tie), place) for tie in disc.round_of(place)]
-        numbers = _numbers_behind(numbers, place, [other for other in others if other not in gone])
-    return numbers.get((), 0)
+        ways = [(other_end(disc.ends_of(tie), place), weights[tie]) for tie in disc.round_of(place) if tie in weights]
+        sums = _sums_behind(sums, place, [(other, weight) for other, weight in ways if other not in gone])
+    return sums.get((), 0)
 
 
-def _numbers_behind(numbers, place, others):
-    """The numbers of pairings of the places gone through, by the tuple of the used ones among those to come.
+def _sums_behind(sums, place, ways):
+    """The sums over pairings of the places gone through, by the tuple of the used ones among those to come.
 
-    `numbers` are those without the place; `others` are its rim places and its neighbours to come, once for
-    each tie.
+    `sums` are those without the place; `ways` are pairs of a rim place or a neighbour to come and the weight
+    of a tie that goes there.
     """
     behind = {}
-    for used, number in numbers.items():
-        for choice in _choices(used, place, others):
-            behind[choice] = behind.get(choice, 0) + number
+    for used, total in sums.items():
+        if place in used:
+            kept = tuple([other for other in used if other != place])
+            behind[kept] = behind.get(kept, 0) + total
+            continue
+        for other, weight in ways:
+            if other not in used:
+                more = _with_end(used, other)
+                behind[more] = behind.get(more, 0) + total * weight
     return behind
-
-
-def _choices(used, place, others):
-    """The list of the used places to come, for each tie that a pairing can have at the place."""
-    if place in used:
-        return [tuple([other for other in used if other != place])]
-    return [_with_end(used, other) for other in others if other not in used]
 
 
 def _with_end(used, end):

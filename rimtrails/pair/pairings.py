@@ -8,7 +8,7 @@ from rimtrails.base.webs import ends_by_tie, other_end
 from rimtrails.base.words import are_names
 from rimtrails.errors import InvalidDisc, InvalidPairing, InvalidSet, TooMany
 from rimtrails.pair.counts import number_of_pairings
-from rimtrails.pair.turns import ends_by_name, leaning_with, ties_to_white, turned_over, turned_with
+from rimtrails.pair.turns import ends_by_name, leaning_with, ties_to_white, turned_over, turned_with, used_places
 
 _MAX_PAIRINGS = 5000
 
@@ -163,7 +163,7 @@ def _neighbours(disc, chosen, colour):
     A rim place whose tie is used counts, and has the colour that its inner end has not; the others do not.
     """
     rounds = disc.white if colour == "white" else disc.black
-    used = _used_places(disc, chosen)
+    used = used_places(disc, chosen)
     neighbours = {}
     for place in rounds:
         others = [other_end(disc.ends_of(tie), place) for tie in rounds[place]]
@@ -172,12 +172,6 @@ def _neighbours(disc, chosen, colour):
         if disc.inner_end(index) not in rounds:
             neighbours[index] = [disc.inner_end(index)]
     return neighbours
-
-
-def _used_places(disc, chosen):
-    """The list of the rim places whose ties are used by the tuple of rim places [4.2]."""
-    white = disc.white
-    return [at + 1 for at in range(disc.many) if (at + 1 in chosen) == (disc.inner_end(at + 1) in white)]
 
 
 def _pairing_with(disc, chosen):

@@ -1,4 +1,4 @@
-"""What a leaning [5.1] is to a pairing, and what can be turned over along a leaning."""
+"""What a leaning [5.1] is to a pairing, what can be turned over along it, and which ties of the rim a set uses."""
 
 from rimtrails.base.webs import other_end
 
@@ -16,6 +16,12 @@ def white_ends(disc):
         first, last = disc.ends_of(tie)
         ends[tie] = last if last in white else first
     return ends
+
+
+def used_places(disc, chosen):
+    """The list of the rim places whose ties are used by the tuple of rim places [4.2]."""
+    white = disc.white
+    return [at + 1 for at in range(disc.many) if (at + 1 in chosen) == (disc.inner_end(at + 1) in white)]
 
 
 def leaning_with(disc, pairing):

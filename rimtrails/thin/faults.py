@@ -15,10 +15,8 @@ from rimtrails.pair.turns import ends_by_name
 def left_out(disc, ties):
     """The disc that is left if these ties are left out."""
     check_disc(disc)
-    if not are_names(ties) or not is_ascending(ties) or not all([tie in disc for tie in ties]):
-        raise InvalidOperation("this is no ascending tuple of ties of the disc")
-    if not do_pair_without(disc, ties):
-        raise InvalidOperation("each pairing of the disc uses some of these ties")
+    if not can_be_left_out(disc, ties):
+        raise InvalidOperation("this is no ascending tuple of ties that can be left out of the disc")
     kept = [tie for tie in disc.rim if tie not in ties]
     left = {place: tuple([tie for tie in disc.round_of(place) if tie not in ties]) for place in disc.places}
     rounds = {"black": {}, "white": {}}
@@ -31,6 +29,13 @@ def left_out(disc, ties):
             names.append(new_name(names))
             rounds[other_colour(disc.colour(disc.inner_end(index)))][names[-1]] = (tie,)
     return Disc(disc.rim, rounds["black"], rounds["white"])
+
+
+def can_be_left_out(disc, value):
+    """Whether the value is an ascending tuple of ties of the disc, and some pairing uses none of them."""
+    if not are_names(value) or not is_ascending(value) or not all([tie in disc for tie in value]):
+        return False
+    return do_pair_without(disc, value)
 
 
 def can_go(disc, tie):
@@ -98,6 +103,12 @@ def is_needed_sets(disc, value):
     if not isinstance(value, dict) or len(value) != len(ties) or not all([tie in value for tie in ties]):
         return False
     return all([is_let(disc, value[tie]) and tie in needed_among(disc, value[tie], (tie,)) for tie in ties])
+
+
+def check_thin(disc):
+    """Raises the error for what is no disc, or is not thin."""
+    if not is_thin(disc):
+        raise InvalidOperation("the disc is not thin")
 
 
 def _has_dead_end(disc, index):

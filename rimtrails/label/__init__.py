@@ -1,0 +1,1 @@
+"""Labels of regions, collections of them, and ways between thin discs."""

@@ -1,0 +1,1 @@
+"""Orders below orders, and parts of orders and of pairings."""

@@ -1,0 +1,1 @@
+"""Points that numbers on ties make, and matrices that have them."""

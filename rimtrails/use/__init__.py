@@ -1,0 +1,1 @@
+"""A bench, on which a disc and its numbers are changed."""
