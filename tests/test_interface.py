@@ -37,6 +37,16 @@ FUNCTIONS = {
     "point.points": ["told_numbers(disc, numbers)", "point_of(disc, numbers)", "is_point(order, value)",
                      "failing_relation(order, point)", "rescaled(disc, numbers, place, factor)",
                      "rescaling_between(disc, one, other)", "region_numbers(disc, numbers)", "moved_numbers(disc, numbers, move)"],
+    "point.matrices": ["is_matrix(value)", "minors(matrix)", "is_told(matrix)", "negative_set(matrix)", "order_of_matrix(matrix)",
+                       "rank_between(matrix, first, last)", "with_zeros(matrix, index)", "with_new_row(matrix, index)",
+                       "with_bridge(matrix, index, number)", "turned_matrix(matrix)", "point_of_matrix(matrix)",
+                       "matrix_of_point(order, point)", "numbers_of(steps, point)", "numbers_back(disc, point)"],
+    "part.borders": ["is_below(one, other)", "set_against(one, other)", "covers_below(order)", "covers_above(order)",
+                     "way_down(one, other)", "orders_between(one, other)", "ties_for(disc, order)", "is_ties_for(disc, order, value)"],
+    "part.parts": ["parts_of(order)", "is_parting(order, value)", "part_order(order, places)", "joined_orders(many, parts)",
+                   "dual_disc(disc)", "mirrored_disc(disc)", "turned_disc(disc, by)", "laid(disc, one, other)",
+                   "switched(disc, one, other, what)", "three_terms(disc, base, four)"],
+    "use.bench": ["is_pledge(value)"],
 }
 METHODS = {
     "base.discs.Disc": ["__init__(self, rim, black, white)", "colour(self, place)", "round_of(self, place)",
@@ -44,6 +54,16 @@ METHODS = {
     "order.orders.Order": ["__init__(self, numbers)", "turned(self, by)", "starts_exchanged(self, index)",
                            "ends_exchanged(self, index)", "__call__(self, number)"],
     "order.diagrams.Diagram": ["__init__(self, many, rows, full)"],
+    "use.bench.Bench": ["__init__(self, disc)", "move(self, move)", "bridge(self, index, *, ends=False, number=1)",
+                        "put_in(self, index, colour)", "leave_out(self, ties)", "put_number(self, tie, number)",
+                        "rescale(self, place, factor)", "rename(self, places, ties)", "demand(self, pledge)", "waive(self, pledge)",
+                        "undo(self, *, many=1)", "redo(self, *, many=1)", "trial(self)", "during(self, call)", "twin(self)"],
+}
+PROPERTIES = {
+    "base.discs.Disc": ["rim", "black", "white", "places", "ties", "many", "level", "regions", "lines", "named_anew"],
+    "order.orders.Order": ["numbers", "many", "level", "knots", "size", "ends", "marks", "falling", "dual", "mirrored"],
+    "order.diagrams.Diagram": ["many", "rows", "full", "columns", "boxes", "level", "lines"],
+    "use.bench.Bench": ["disc", "numbers", "order", "point", "lines", "pledges", "changes"],
 }
 MADE_BY = {
     "base.discs.Disc": "from_lines(cls, *lines)",
@@ -53,6 +73,7 @@ MADE_BY = {
 CONSTANTS = {
     "base.words": {"MAX_LETTERS": 8, "MAX_FIGURES": 60}, "base.discs": {"MAX_RIM": 8, "MAX_TIES": 60},
     "label.labels": {"MAX_COLLECTIONS": 1000}, "label.ways": {"MAX_SHORT": 1000},
+    "use.bench": {"MAX_PLEDGES": 10},
 }
 GENERATORS = {"each_pairing", "each_knot", "each_order", "each_diagram", "each_move", "each_collection", "each_short"}
 
@@ -87,6 +108,11 @@ class Interface(unittest.TestCase):
             made = vars(told(name))[text.partition("(")[0]]
             self.assertIs(type(made), classmethod)
             self.check(made.__func__, text)
+
+    def test_properties(self):
+        for name, properties in PROPERTIES.items():
+            for one in properties:
+                self.assertIsInstance(vars(told(name))[one], property)
 
     def test_constants(self):
         for module, numbers in CONSTANTS.items():

@@ -4,20 +4,20 @@ import itertools
 import unittest
 
 from rimtrails.base.discs import Disc, are_same
-from rimtrails.base.trails import regions_of, round_trails, trail_ends
+from rimtrails.base.trails import regions_of, trail_ends
 from rimtrails.base.webs import from_least
 from rimtrails.base.words import nth_name
 from rimtrails.build.bridges import bare_disc, bridged, disc_of
 from rimtrails.errors import InvalidMove
 from rimtrails.order.necklaces import order_of
-from rimtrails.order.orders import Order, top_order
+from rimtrails.order.orders import top_order
 from rimtrails.pair.pairings import let_sets
 from rimtrails.thin import moves
 from rimtrails.thin.faults import can_go, is_thin, left_out
 from rimtrails.thin.moves import each_move, is_move, is_short, is_thinning, made_thin, moved, shortened
 from tests.many_discs import discs_by_chance, grid, orders_by_chance, renamed_by_chance, thin_by_chance
 from tests.refusals import check_arguments, check_judge, check_refused, no_discs, not_one_of
-from tests.samples import BLACK, DOUBLE, HUNG, LINE, SQUARE, STAR, common_ties, wrong_values
+from tests.samples import BLACK, DOUBLE, HUNG, LINE, SQUARE, STAR, wrong_values
 
 TURN = ("square", ("e", "f", "g", "h"))
 LOOP = Disc.from_lines("rim p", "white w p e f", "black b e f")

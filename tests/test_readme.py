@@ -3,6 +3,8 @@
 import pathlib
 import unittest
 
+from rimtrails import errors
+
 README = pathlib.Path(__file__).resolve().parent.parent / "README.md"
 
 
@@ -13,7 +15,10 @@ class Examples(unittest.TestCase):
         for block in README.read_text().split("```python\n")[1:]:
             for row in block.split("```")[0].splitlines():
                 code, _, answer = row.partition("  # ")
-                if answer and " = " not in code:
+                if answer.strip().startswith("raises "):
+                    self.assertRaises(getattr(errors, answer.split()[1].partition("(")[0]), eval, code, names)
+                    told += 1
+                elif answer and " = " not in code:
                     self.assertEqual(eval(code, names), eval(answer, names), row)
                     told += 1
                 elif row:

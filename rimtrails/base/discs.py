@@ -4,7 +4,7 @@ from rimtrails.base.matchings import lack_among
 from rimtrails.base.shapes import names_by_shape
 from rimtrails.base.webs import are_ends, are_rounds, count_walks, do_all_reach_rim, ends_by_tie, from_least
 from rimtrails.base.webs import steps_behind
-from rimtrails.base.words import are_names, is_integer, is_name, is_naming
+from rimtrails.base.words import are_names, is_integer, is_naming
 from rimtrails.errors import InvalidDisc, InvalidNumber, InvalidOperation, ParseError, UnknownName
 
 MAX_RIM = 8

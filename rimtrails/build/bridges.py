@@ -37,10 +37,7 @@ def with_rim_place(disc, index, colour):
 
 def bridged(disc, index, *, ends=False):
     """The disc with a bridge of starts at the rim place, or with one of ends."""
-    check_disc(disc)
-    check_number(index, 1, disc.many - 1)
-    if ends is not True and ends is not False:
-        raise InvalidOperation("a bridge is one of ends, or it is not")
+    check_bridge(disc, index, ends)
     first, last = ("black", "white") if ends else ("white", "black")
     wanting = [seat for seat, colour in ((index, first), (index + 1, last))
                if disc.colour(disc.inner_end(seat)) != colour]
@@ -52,6 +49,14 @@ def bridged(disc, index, *, ends=False):
     put_in_seat(rounds[first], disc.inner_end(index), disc.rim[index - 1], (disc.rim[index - 1], tie))
     put_in_seat(rounds[last], disc.inner_end(index + 1), disc.rim[index], (tie, disc.rim[index]))
     return Disc(disc.rim, rounds["black"], rounds["white"])
+
+
+def check_bridge(disc, index, ends):
+    """Raises the error for the first one that is no disc, no rim place with a next one, or neither True nor False."""
+    check_disc(disc)
+    check_number(index, 1, disc.many - 1)
+    if ends is not True and ends is not False:
+        raise InvalidOperation("a bridge is one of ends, or it is not")
 
 
 def with_place_on(disc, index):

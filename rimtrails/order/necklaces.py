@@ -80,7 +80,7 @@ def _least_from(many, start, sets):
     return min(sets, key=lambda places: _seats(many, start, places))
 
 
-def _is_below(many, start, one, other):
+def is_below_from(start, many, one, other):
     """Whether the one set is below the other one, which has as many places, from the start [7.1]."""
     return any([own < wanted for own, wanted in zip(_seats(many, start, one), _seats(many, start, other))])
 
@@ -88,7 +88,7 @@ def _is_below(many, start, one, other):
 def _barred_by(necklace, places):
     """The least start from which the set is below that of the necklace, or None."""
     many = len(necklace)
-    starts = [at + 1 for at in range(many) if _is_below(many, at + 1, places, necklace[at])]
+    starts = [at + 1 for at in range(many) if is_below_from(at + 1, many, places, necklace[at])]
     return starts[0] if len(starts) > 0 else None
 
 

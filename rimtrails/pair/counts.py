@@ -15,11 +15,10 @@ def sum_with_set(disc, chosen, numbers):
     held = [disc.inner_end(index) for index in used]
     if len(set(held)) < len(held):
         return 0
-    weights = {disc.rim[index - 1]: numbers[disc.rim[index - 1]] for index in used}
-    for tie in disc.ties:
-        if tie not in disc.rim and not any([place in held for place in disc.ends_of(tie)]):
-            weights[tie] = numbers[tie]
-    return _sum_over(disc, weights)
+    rims = [disc.rim[index - 1] for index in used]
+    inner = [tie for tie in disc.ties
+             if tie not in disc.rim and not any([place in held for place in disc.ends_of(tie)])]
+    return _sum_over(disc, {tie: numbers[tie] for tie in rims + inner})
 
 
 def _sum_over(disc, weights):

@@ -8,7 +8,7 @@ from rimtrails.base.words import divided, in_lowest_terms, is_integer, is_whole,
 from rimtrails.errors import InvalidMove, InvalidNumbers, InvalidPoint
 from rimtrails.order.necklaces import sets_of
 from rimtrails.order.orders import check_order
-from rimtrails.point.weights import numbers_behind, rescaled_by, told_by, without_divisor
+from rimtrails.point.weights import numbers_behind, point_by, rescaled_by, told_by, without_divisor
 from rimtrails.thin.moves import is_move
 
 
@@ -21,7 +21,7 @@ def told_numbers(disc, numbers):
 def point_of(disc, numbers):
     """The point that the numbers tell."""
     _check_numbers(disc, numbers)
-    return without_divisor(told_by(disc, numbers))
+    return point_by(disc, numbers)
 
 
 def is_point(order, value):

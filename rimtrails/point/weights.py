@@ -16,6 +16,11 @@ def told_by(disc, numbers):
     return {chosen: sum_with_set(disc, chosen, numbers) for chosen in let_sets(disc)}
 
 
+def point_by(disc, numbers):
+    """The point that the numbers tell."""
+    return without_divisor(told_by(disc, numbers))
+
+
 def without_divisor(told):
     """The dict with its integers, which are not all 0, divided by their greatest common divisor."""
     divisor = 0
@@ -51,6 +56,17 @@ def with_place_put(disc, numbers, index):
     """The numbers with a new place put on the tie of the rim place, which gets 1."""
     tie = disc.rim[index - 1]
     return by_tie({**numbers, new_names(disc.ties, 1)[0]: numbers[tie], tie: 1})
+
+
+def numbers_with_bridge(disc, numbers, bridge, wanting):
+    """The numbers with a bridge that has this number; places were put on the ties of the wanting rim places."""
+    changed = dict(numbers)
+    *names, last = new_names(disc.ties, len(wanting) + 1)
+    for index, name in zip(wanting, names):
+        changed[name] = changed[disc.rim[index - 1]]
+        changed[disc.rim[index - 1]] = 1
+    changed[last] = bridge
+    return by_tie(changed)
 
 
 def by_tie(numbers):
