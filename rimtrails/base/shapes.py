@@ -23,7 +23,8 @@ def names_by_shape(rim, rounds, ends):
     while len(places) < len(met):
         place = met[len(places)]
         places[place] = nth_name(len(places))
-        for tie in ties_behind(rounds[place], met_by[place]):
+        came = met_by[place]
+        for tie in ties_behind(rounds[place], came):
             if tie not in ties:
                 ties[tie] = nth_name(len(ties))
                 other = other_end(ends[tie], place)

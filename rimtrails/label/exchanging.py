@@ -56,14 +56,15 @@ def reached_by_exchanges(start, most):
     waiting = [start]
     at = 0
     while at < len(waiting):
-        for own, other in exchanges_by_bits(waiting[at]):
-            reached = with_exchange(waiting[at], own, other)
+        collection = waiting[at]
+        at += 1
+        for own, other in exchanges_by_bits(collection):
+            reached = with_exchange(collection, own, other)
             if reached not in before:
-                before[reached] = waiting[at]
+                before[reached] = collection
                 waiting.append(reached)
         if len(before) > most:
             return None
-        at += 1
     return before
 
 

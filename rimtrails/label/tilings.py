@@ -33,8 +33,8 @@ def _alike_within(collection):
     alike = {}
     for label in collection:
         for place in label:
-            rest = tuple([other for other in label if other != place])
-            alike.setdefault(rest, {})[place] = label
+            by_place = alike.setdefault(tuple([other for other in label if other != place]), {})
+            by_place[place] = label
     return alike
 
 
@@ -44,7 +44,8 @@ def _alike_without(many, collection):
     for label in collection:
         for place in range(1, many + 1):
             if place not in label:
-                alike.setdefault(tuple(sorted([*label, place])), {})[place] = label
+                by_place = alike.setdefault(tuple(sorted([*label, place])), {})
+                by_place[place] = label
     return alike
 
 

@@ -65,7 +65,8 @@ def set_apart(one, other):
 
 def each_short(order):
     """Yields all short discs of the order, ascending by their lines."""
-    discs = [disc_with_labels(order, collection) for collection in each_collection(order)]
+    collections = list(each_collection(order))
+    discs = [disc_with_labels(order, collection) for collection in collections]
     for disc in sorted(discs, key=_lines_of):
         yield disc
 
@@ -101,7 +102,5 @@ def _exchanged_between(one, other):
 
 def _square_with(disc, places):
     """The move that turns over the square of the short disc whose label is the set."""
-    for region, label in labels_of(disc).items():
-        if label == places:
-            return ("square", tuple(sorted([tie for tie, _ in region])))
-    return None
+    regions = [region for region, label in labels_of(disc).items() if label == places]
+    return ("square", tuple(sorted([tie for tie, _ in regions[0]])))

@@ -65,14 +65,15 @@ def orders_between(one, other):
     between = [other]
     at = 0
     while at < len(between):
-        for order in covers_below(between[at]):
+        higher = between[at]
+        at += 1
+        for order in covers_below(higher):
             if order.numbers not in met:
                 met[order.numbers] = True
                 if is_below(one, order):
                     between.append(order)
         if len(between) > _MAX_BETWEEN:
             raise TooMany(_MAX_BETWEEN)
-        at += 1
     return tuple(sorted(between, key=_numbers_of))
 
 

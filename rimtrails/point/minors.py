@@ -6,17 +6,18 @@ from math import gcd
 def determinant(columns):
     """The determinant of columns that have as many integers as there are columns."""
     rows = [list(column) for column in columns]
+    many = len(rows)
     sign = 1
     divisor = 1
-    for at in range(len(rows)):
-        others = [index for index in range(at, len(rows)) if rows[index][at] != 0]
+    for at in range(many):
+        others = [index for index in range(at, many) if rows[index][at] != 0]
         if len(others) == 0:
             return 0
         if others[0] != at:
             rows[at], rows[others[0]] = rows[others[0]], rows[at]
             sign = -sign
         # Each new integer is a minor times the divisor, so it can be divided.
-        for index in range(at + 1, len(rows)):
+        for index in range(at + 1, many):
             rows[index] = [(rows[at][at] * number - rows[index][at] * above) // divisor
                            for number, above in zip(rows[index], rows[at])]
         divisor = rows[at][at]

@@ -71,11 +71,11 @@ def region_numbers(disc, numbers):
     _check_numbers(disc, numbers)
     found = []
     for region in regions_of(disc):
-        product = (1, 1)
+        total = (1, 1)
         for step in region:
             number = numbers[step[0]]
-            product = multiplied(product, (number, 1) if _does_lead_to_black(disc, step) else (1, number))
-        found.append(product)
+            total = multiplied(total, (number, 1) if _does_lead_to_black(disc, step) else (1, number))
+        found.append(total)
     return tuple(found)
 
 
@@ -118,10 +118,11 @@ def _failing(order, told):
 
 def _is_true(told, base, four):
     """Whether the relation of these rim places is true; what is not let counts 0."""
-    def product(first, last):
-        return _told_with(told, base, first) * _told_with(told, base, last)
     a, b, c, d = four
-    return product((a, c), (b, d)) == product((a, b), (c, d)) + product((a, d), (b, c))
+    terms = []
+    for first, last in (((a, c), (b, d)), ((a, b), (c, d)), ((a, d), (b, c))):
+        terms.append(_told_with(told, base, first) * _told_with(told, base, last))
+    return terms[0] == terms[1] + terms[2]
 
 
 def _told_with(told, base, pair):
