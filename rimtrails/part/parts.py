@@ -6,6 +6,7 @@ from rimtrails.base.sets import is_ascending, is_rim_set
 from rimtrails.base.webs import from_least, other_end
 from rimtrails.base.words import is_integer, is_name
 from rimtrails.errors import InvalidOperation, InvalidPairing, InvalidSet
+from rimtrails.label.exchanging import are_crossing
 from rimtrails.order.orders import Order, check_order
 from rimtrails.pair.counts import sum_with_set
 from rimtrails.pair.pairings import is_pairing
@@ -136,17 +137,11 @@ def _joined(parts, places):
     return [joined, *[part for part in parts if part not in wanted]]
 
 
-def _do_cross(one, other):
-    """Whether two parts cross in their places; no place is in both."""
-    sides = [place in one for place in sorted(one + other)]
-    return len([at for at in range(1, len(sides)) if sides[at] != sides[at - 1]]) >= 3
-
-
 def _crossing_parts(parts):
-    """All places of two parts that cross, or None."""
+    """All places of two parts that cross in their places, or None; no place is in two parts."""
     for at, one in enumerate(parts):
         for other in parts[at + 1:]:
-            if _do_cross(one, other):
+            if are_crossing(one, other):
                 return one + other
     return None
 
